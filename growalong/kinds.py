@@ -37,3 +37,13 @@ def is_unlike_pair(bound, thing):
 def is_worded(word, length, thing):
     """Whether a thing is a tuple of this length that begins with this word."""
     return is_tuple_of(length, length, thing) and isinstance(thing[0], str) and thing[0] == word
+
+
+def are_ascending(things):
+    """Whether some things of kinds that have an order ascend, each of them once."""
+    return all([one < other for one, other in zip(things, things[1:])])
+
+
+def is_lot(bound, thing):
+    """Whether a thing is an ascending tuple of integers from 0 on, less than bound."""
+    return isinstance(thing, tuple) and are_below(bound, thing) and are_ascending(thing)

@@ -1,6 +1,6 @@
 """Records: who put which puts, and in what order each machine saw them."""
 
-from growalong.errors import BadRecord, NoMachine, NoPut
+from growalong.errors import BadRecord, NoMachine, NoPut, OtherMachines
 from growalong.kinds import are_below, is_below, is_tuple_of
 from growalong.webs import MOST_MACHINES
 
@@ -40,12 +40,31 @@ def is_diary(puts, thing):
     return isinstance(thing, tuple) and are_below(puts, thing) and len(set(thing)) == len(thing)
 
 
+def record_of_any_size(writers, diaries):
+    """A record that is known to be right, of however many machines and puts."""
+    # As with webs, only the constructor bounds how many there are.
+    record = Record((), ((),))
+    record.writers = writers
+    record.diaries = diaries
+    return record
+
+
+def check_machines(machines, record):
+    """Raises OtherMachines unless a record has so many machines."""
+    if machines != len(record.diaries):
+        raise OtherMachines()
+
+
+def check_put(record, put):
+    if not is_below(len(record.writers), put):
+        raise NoPut()
+
+
 def ahead(record, machine, put):
     """The ascending tuple of what a machine saw ahead of a put, None if it hasn't the put."""
     if not is_below(len(record.diaries), machine):
         raise NoMachine()
-    if not is_below(len(record.writers), put):
-        raise NoPut()
+    check_put(record, put)
     diary = record.diaries[machine]
     if put not in diary:
         return None

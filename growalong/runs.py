@@ -1,8 +1,8 @@
 """Runs: steps that put, and that let letters come."""
 
-from growalong.errors import BadStep, NoWriters, OtherMachines
+from growalong.errors import BadStep, NoWriters
 from growalong.kinds import are_below, is_below, is_list_or_tuple, is_tuple_of, is_unlike_pair, is_worded
-from growalong.records import MOST_PUTS
+from growalong.records import MOST_PUTS, check_machines
 
 MOST_STEPS = 4000
 
@@ -73,10 +73,14 @@ def are_steps(thing):
     return is_list_or_tuple(thing) and len(thing) <= MOST_STEPS
 
 
-def led(web, writers, steps):
-    """The pair of the diaries and the letters on all wires behind a run."""
+def check_writers(web, writers):
     if not is_tuple_of(0, MOST_PUTS, writers) or not are_below(web.machines, writers):
         raise NoWriters()
+
+
+def led(web, writers, steps):
+    """The pair of the diaries and the letters on all wires behind a run."""
+    check_writers(web, writers)
     if not are_steps(steps):
         raise BadStep(-1)
     post = Post(web, writers)
@@ -88,8 +92,7 @@ def led(web, writers, steps):
 
 def is_run(web, record, thing):
     """Whether a thing is a run that leads to the diaries of a record."""
-    if web.machines != len(record.diaries):
-        raise OtherMachines()
+    check_machines(web.machines, record)
     if not are_steps(thing):
         return False
     post = Post(web, record.writers)

@@ -44,6 +44,37 @@ def web_of_any_size(machines, wires):
     return web
 
 
+def ways_from(machine, wires):
+    """The machines to which ways of wires lead from one, the nearest first.
+
+    Each of them comes with the one that is ahead of it on such a way, the one itself with None.
+    """
+    onward = {}
+    for y, x in wires:
+        onward.setdefault(y, []).append(x)
+    found = {machine: None}
+    queue = [machine]
+    at = 0
+    while at < len(queue):
+        here = queue[at]
+        at += 1
+        for x in onward.get(here, []):
+            if x not in found:
+                found[x] = here
+                queue.append(x)
+    return found
+
+
+def there_and_back(pairs):
+    """The wires there and back of each pair."""
+    return [wire for one, other in pairs for wire in ((one, other), (other, one))]
+
+
+def all_but(wire, wires):
+    """A list of some wires, or of other pairs, without this one."""
+    return [kept for kept in wires if kept != wire]
+
+
 def check_number(least, machines):
     if not is_between(least, MOST_MACHINES, machines):
         raise NoNumber()
@@ -59,13 +90,18 @@ def both_ways(machines, pairs):
     check_number(1, machines)
     if not are_pairs(machines, pairs):
         raise NoPairs()
-    return web_of_any_size(machines, [wire for one, other in pairs for wire in ((one, other), (other, one))])
+    return web_of_any_size(machines, there_and_back(pairs))
 
 
 def full(machines):
     """The web of all wires."""
     check_number(1, machines)
-    return both_ways(machines, [(one, other) for other in range(machines) for one in range(other)])
+    return web_of_all_wires(machines)
+
+
+def web_of_all_wires(machines):
+    """The web of all wires of however many machines."""
+    return web_of_any_size(machines, [(y, x) for y in range(machines) for x in range(machines) if y != x])
 
 
 def hub(machines):
@@ -115,22 +151,18 @@ def without_wire(web, wire):
     """The web with this wire left out."""
     if not is_unlike_pair(web.machines, wire) or wire not in web.wires:
         raise NoWire()
-    return web_of_any_size(web.machines, [kept for kept in web.wires if kept != wire])
+    return web_of_any_size(web.machines, all_but(wire, web.wires))
+
+
+def check_machine(web, machine):
+    if not is_below(web.machines, machine):
+        raise NoMachine()
 
 
 def reached(web, machine):
     """The ascending tuple of the machines to which ways of wires lead from one, itself among them."""
-    if not is_below(web.machines, machine):
-        raise NoMachine()
-    found = {machine: True}
-    left = [machine]
-    while left:
-        here = left.pop()
-        for y, x in web.wires:
-            if y == here and x not in found:
-                found[x] = True
-                left.append(x)
-    return tuple(sorted(found))
+    check_machine(web, machine)
+    return tuple(sorted(ways_from(machine, web.wires)))
 
 
 def is_strong(web):

@@ -2,9 +2,15 @@
 
 import unittest
 
+from growalong.days import fewest_wires, sure_wires, uncaused
+from growalong.growing import growing, is_bar, is_made, may_have_put, run_of
+from growalong.halls import Hall, cuts, picture
 from growalong.records import Record, ahead
 from growalong.runs import led
-from growalong.webs import Web, full, reached, ring
+from growalong.sights import partings, ways_apart
+from growalong.webs import Web, full, hub, reached, ring
+
+T = Record((0, 1, 2), ((0, 1, 2), (1, 2, 0), (2, 0, 1)))
 
 
 class Examples(unittest.TestCase):
@@ -14,7 +20,30 @@ class Examples(unittest.TestCase):
         self.assertIs(ring(3) == full(3), True)
 
     def test_e02(self):
-        t = Record((0, 1, 2), ((0, 1, 2), (1, 2, 0), (2, 0, 1)))
-        self.assertEqual(ahead(t, 1, 0), (1, 2))
+        self.assertEqual(ahead(T, 1, 0), (1, 2))
         told = led(full(2), (0,), [("put", 0), ("come", 0, 1)])
         self.assertEqual(told, (((0,), (0,)), {(0, 1): (), (1, 0): (0,)}))
+
+    def test_e03(self):
+        w, r = ring(4), Record((0, 1), ((0, 1), (1, 0), (0, 1), (1, 0)))
+        self.assertIs(is_bar(w, r, (0, (2,))), True)
+        self.assertIsNone(run_of(w, r))
+        self.assertIs(is_made(w, Record((0, 1), ((0, 1), (1, 0), (1, 0), (0, 1)))), True)
+        self.assertEqual(growing(full(3), T, 0), [(0, 1), (0, 2), (2, 1)])
+
+    def test_e04(self):
+        self.assertEqual(may_have_put(full(3), T, 0), (0,))
+
+    def test_e05(self):
+        self.assertIsNone(uncaused([Record((0, 1), ((1, 0), (1, 0)))]))
+        self.assertEqual(sure_wires([T]), [(0, 2), (1, 0), (2, 1)])
+        self.assertIs(fewest_wires([Record((0,), ((0,), (0,)))]) == Web(2, ((0, 1),)), True)
+
+    def test_e06(self):
+        self.assertEqual(picture(T), ("turned", 0, 1, 2))
+        self.assertEqual(cuts(Hall(((0, 1), (0, 2), (0, 3)), (1, 2, 3))), [(1,), (1, 2), (2,)])
+
+    def test_e07(self):
+        self.assertEqual(ways_apart(hub(3), ((1, 2),)), ((1, 0, 2),))
+        self.assertIsNone(ways_apart(hub(4), ((0, 1), (2, 3))))
+        self.assertEqual(partings(hub(3), 1, 2), [(), (0, 1), (0, 1, 2), (1,)])

@@ -1,6 +1,7 @@
 """A part of the rules of the language, of those that are easily broken unseen."""
 
 import ast
+import builtins
 import unittest
 from pathlib import Path
 
@@ -11,12 +12,17 @@ BUILTINS = """len range enumerate zip min max sum abs sorted reversed int str bo
 METHODS = """append clear copy count endswith extend find get index insert isalnum isalpha isdigit islower isspace
     isupper items join keys ljust lower lstrip partition pop remove replace reverse rfind rjust rpartition rsplit
     rstrip setdefault split splitlines startswith strip update upper values zfill bit_length add discard""".split()
-BARRED = (ast.Try, ast.Global, ast.AsyncFunctionDef, ast.Await, ast.Yield, ast.YieldFrom, ast.Div, ast.Import)
+BARRED = (ast.Try, ast.Global, ast.AsyncFunctionDef, ast.Await, ast.Yield, ast.YieldFrom, ast.Div, ast.Import,
+          ast.GeneratorExp)
 INTERFACE = {
     "errors": ["GrowError"],
     "webs": "Web both_ways full hub line ring renamed with_wire without_wire reached is_strong".split(),
     "records": "Record ahead is_whole".split(),
     "runs": "led is_run".split(),
+    "growing": "growing trees run_of bar is_trees is_bar is_made may_have_put may_come".split(),
+    "days": "uncaused sure_wires thinned fewest_wires is_least_web".split(),
+    "halls": "Hall cuts node_diaries picture is_node_diaries hall_of".split(),
+    "sights": "first_sights ways_apart is_first_sights is_ways_apart partings count_made".split(),
 }
 
 
@@ -84,8 +90,44 @@ class Language(unittest.TestCase):
             if isinstance(node, (ast.FunctionDef, ast.ClassDef)):
                 self.assertEqual(node.decorator_list, [], (name, node.name))
 
+    def test_no_name_has_two_meanings_in_a_file(self):
+        for path in files():
+            imported = [alias.name for node in tree_of(path).body if isinstance(node, ast.ImportFrom)
+                        for alias in node.names]
+            defined = [node.name for node in tree_of(path).body if isinstance(node, (ast.FunctionDef, ast.ClassDef))]
+            self.assertEqual(len({*imported, *defined}), len(imported) + len(defined), path.name)
+            for node in ast.walk(tree_of(path)):
+                if isinstance(node, ast.Name) and isinstance(node.ctx, ast.Store) or isinstance(node, ast.arg):
+                    name = node.id if isinstance(node, ast.Name) else node.arg
+                    self.assertNotIn(name, imported + defined, (path.name, node.lineno))
+                    self.assertNotIn(name, vars(builtins), (path.name, node.lineno))
+
+    def test_no_import_is_unused_and_none_goes_round(self):
+        needs = {}
+        for path in files():
+            imports = [node for node in tree_of(path).body if isinstance(node, ast.ImportFrom)]
+            used = {node.id for node in ast.walk(tree_of(path)) if isinstance(node, ast.Name)}
+            for node in imports:
+                self.assertEqual([alias.name for alias in node.names if alias.name not in used], [], path.name)
+            needs[path.stem] = {node.module.split(".")[-1] for node in imports if node.module not in LIBRARY}
+        while needs:
+            ready = [name for name in needs if not needs[name] & set(needs)]
+            self.assertNotEqual(ready, [], "imports go round")
+            for name in ready:
+                del needs[name]
+
+    def test_where_sets_stand(self):
+        for path in files():
+            tree = tree_of(path)
+            right = [node for call in ast.walk(tree) if isinstance(call, ast.Call) and isinstance(call.func, ast.Name)
+                     and call.func.id in ("len", "sorted") for node in call.args]
+            for node in ast.walk(tree):
+                called = isinstance(node, ast.Call) and isinstance(node.func, ast.Name) and node.func.id == "set"
+                if called or isinstance(node, (ast.Set, ast.SetComp)):
+                    self.assertIn(node, right, (path.name, node.lineno))
+
     def test_builtins_that_are_used(self):
-        barred = set(vars(__import__("builtins"))) - set(BUILTINS)
+        barred = set(vars(builtins)) - set(BUILTINS)
         for name, node in all_nodes():
             if isinstance(node, ast.Name):
                 self.assertNotIn(node.id, barred, (name, node.lineno))

@@ -7,17 +7,9 @@ from growalong import errors
 from growalong.webs import (Web, both_ways, full, hub, is_strong, line, reached, renamed, ring, web_of_any_size,
                             with_wire, without_wire)
 from tests.odd import odd_things
+from tests.slow import all_webs, all_wires
 
 NO_NUMBERS = (0, 8, -1, 10 ** 39, -10 ** 39)
-
-
-def all_wires(machines):
-    return [(y, x) for y in range(machines) for x in range(machines) if y != x]
-
-
-def all_webs(machines):
-    wires = all_wires(machines)
-    return [Web(machines, some) for many in range(len(wires) + 1) for some in combinations(wires, many)]
 
 
 def reached_slowly(web, machine):
