@@ -1,6 +1,8 @@
 """Things of many kinds, for what is to judge any object."""
 
 import growalong.errors
+from growalong.benches import Bench
+from growalong.programs import Program
 from growalong.records import Record
 from growalong.webs import Web, full
 
@@ -23,6 +25,7 @@ def odd_things():
         memoryview(b"a"), iter([]), (k for k in ()), print, len, int, tuple, type, object(), lambda: 0,
         odd_things, growalong, ValueError(), ValueError,
         Web, Web(2, ((0, 1),)), full(3), Record((0,), ((0,), ())), Record, growalong.errors.GrowError,
+        Program((0,), ((),)), Program((1, 0), ((), (("rest",),))), Program, Bench(full(1), Program((0,), ((),))), Bench,
         growalong.errors.BadWeb([1]), growalong.errors.NoWire(), growalong.errors.NoWire,
         [None], (None,), ([],), ({},), ((),), [[]], (full(2),), [full(2)], ("put",), ["put"], (True, False), [True],
         ((True, False),), (("put", True),), [("come", True, False)], (("put", full(2)),), [("come", None, ())],

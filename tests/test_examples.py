@@ -5,12 +5,17 @@ import unittest
 from growalong.days import fewest_wires, sure_wires, uncaused
 from growalong.growing import growing, is_bar, is_made, may_have_put, run_of
 from growalong.halls import Hall, cuts, picture
+from growalong.outcomes import outcomes
+from growalong.plain import fewest_rests, not_plain, plain_outcomes
+from growalong.programs import Program
 from growalong.records import Record, ahead
 from growalong.runs import led
 from growalong.sights import partings, ways_apart
 from growalong.webs import Web, full, hub, reached, ring
 
 T = Record((0, 1, 2), ((0, 1, 2), (1, 2, 0), (2, 0, 1)))
+P = Program((0, 1), ((("set", 0, 1), ("put", 0, 0), ("look", 1, 1), ("tell", 1)),
+                     (("set", 0, 1), ("put", 1, 0), ("look", 1, 0), ("tell", 1))))
 
 
 class Examples(unittest.TestCase):
@@ -47,3 +52,10 @@ class Examples(unittest.TestCase):
         self.assertEqual(ways_apart(hub(3), ((1, 2),)), ((1, 0, 2),))
         self.assertIsNone(ways_apart(hub(4), ((0, 1), (2, 3))))
         self.assertEqual(partings(hub(3), 1, 2), [(), (0, 1), (0, 1, 2), (1,)])
+
+    def test_e08(self):
+        told = [((0,), (0,)), ((0,), (1,)), ((1,), (0,)), ((1,), (1,))]
+        self.assertEqual(outcomes(full(2), P), told)
+        self.assertEqual(plain_outcomes(P), told[1:])
+        self.assertEqual(not_plain(full(2), P), ((0,), (0,)))
+        self.assertEqual(fewest_rests(full(2), P), ((0, 1), (1, 1)))

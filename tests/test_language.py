@@ -11,8 +11,8 @@ BUILTINS = """len range enumerate zip min max sum abs sorted reversed int str bo
     ord repr any all divmod pow iter next map ValueError KeyError NotImplemented StopIteration TypeError""".split()
 METHODS = """append clear copy count endswith extend find get index insert isalnum isalpha isdigit islower isspace
     isupper items join keys ljust lower lstrip partition pop remove replace reverse rfind rjust rpartition rsplit
-    rstrip setdefault split splitlines startswith strip update upper values zfill bit_length add discard""".split()
-BARRED = (ast.Try, ast.Global, ast.AsyncFunctionDef, ast.Await, ast.Yield, ast.YieldFrom, ast.Div, ast.Import,
+    rstrip setdefault split splitlines startswith strip update upper values zfill bit_length add discard isascii""".split()
+BARRED = (ast.ExceptHandler, ast.Global, ast.AsyncFunctionDef, ast.Await, ast.Yield, ast.YieldFrom, ast.Div, ast.Import,
           ast.GeneratorExp)
 INTERFACE = {
     "errors": ["GrowError"],
@@ -23,6 +23,14 @@ INTERFACE = {
     "days": "uncaused sure_wires thinned fewest_wires is_least_web".split(),
     "halls": "Hall cuts node_diaries picture is_node_diaries hall_of".split(),
     "sights": "first_sights ways_apart is_first_sights is_ways_apart partings count_made".split(),
+    "programs": "Program put_rests renamed_program waits_of".split(),
+    "benches": "Bench replayed".split(),
+    "outcomes": "outcomes run_to stuck is_run_to many_standings".split(),
+    "plain": "plain_outcomes not_plain fewest_rests".split(),
+}
+METHODS_LISTED = {
+    "Bench": """can step steps back go set_break clear_break breaks state row registers remembered told cells diary puts
+        letters web program outcome copy trying cut lay fall rise lives lived journal""".split(),
 }
 
 
@@ -142,3 +150,25 @@ class Language(unittest.TestCase):
         for module, names in INTERFACE.items():
             defined = self.defined_in(module)
             self.assertEqual([name for name in names if name not in defined], [])
+
+    def test_the_methods_stand_in_their_classes(self):
+        defined = {node.name: [method.name for method in node.body if isinstance(method, ast.FunctionDef)]
+                   for _, node in all_nodes() if isinstance(node, ast.ClassDef)}
+        for name, methods in METHODS_LISTED.items():
+            self.assertEqual([method for method in methods if method not in defined[name]], [])
+        for name in ("Web", "Record", "Hall", "Program"):
+            self.assertIn("__eq__", defined[name])
+
+    def test_no_name_is_a_method_and_an_attribute(self):
+        methods = {method.name for _, node in all_nodes() if isinstance(node, ast.ClassDef)
+                   for method in node.body if isinstance(method, ast.FunctionDef)}
+        for name, node in all_nodes():
+            if isinstance(node, ast.Attribute) and isinstance(node.ctx, ast.Store):
+                self.assertNotIn(node.attr, methods, (name, node.lineno))
+
+    def test_what_stands_in_a_finally(self):
+        for name, node in all_nodes():
+            if isinstance(node, ast.Try):
+                self.assertTrue(all([isinstance(row, ast.Assign) for row in node.finalbody]), (name, node.lineno))
+                self.assertFalse([part for row in node.finalbody for part in ast.walk(row)
+                                  if isinstance(part, (ast.Call, ast.Subscript, ast.BinOp))], (name, node.lineno))
