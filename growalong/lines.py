@@ -3,6 +3,8 @@
 from growalong.errors import BadText
 
 MOST_FIGURES = 9
+MOST_LETTERS = 8
+LETTERS = "abcdefghijklmnopqrstuvwxyz"
 
 
 def number_in(word):
@@ -30,3 +32,14 @@ def lines_in(text):
 def line_of(words):
     """A line of these words and numbers, with its line feed."""
     return " ".join([str(word) for word in words]) + "\n"
+
+
+def check_end(lines):
+    """Raises BadText if something stands behind the last line feed of a text, or there is no line."""
+    if lines[-1] != "" or len(lines) == 1:
+        raise BadText(len(lines))
+
+
+def is_name(word):
+    """Whether a word is 1 to 8 letters from a to z."""
+    return 1 <= len(word) <= MOST_LETTERS and all([letter in LETTERS for letter in word])

@@ -1,7 +1,8 @@
-"""The examples of the document, as far as they have landed."""
+"""The examples of the document."""
 
 import unittest
 
+from growalong.assembling import assembled
 from growalong.days import fewest_wires, sure_wires, uncaused
 from growalong.growing import growing, is_bar, is_made, may_have_put, run_of
 from growalong.halls import Hall, cuts, picture
@@ -10,7 +11,9 @@ from growalong.plain import fewest_rests, not_plain, plain_outcomes
 from growalong.programs import Program
 from growalong.records import Record, ahead
 from growalong.runs import led
+from growalong.showing import within
 from growalong.sights import partings, ways_apart
+from growalong.texts import web_text
 from growalong.webs import Web, full, hub, reached, ring
 
 T = Record((0, 1, 2), ((0, 1, 2), (1, 2, 0), (2, 0, 1)))
@@ -59,3 +62,11 @@ class Examples(unittest.TestCase):
         self.assertEqual(plain_outcomes(P), told[1:])
         self.assertEqual(not_plain(full(2), P), ((0,), (0,)))
         self.assertEqual(fewest_rests(full(2), P), ((0, 1), (1, 1)))
+
+    def test_e09(self):
+        told = assembled("cell a 0\nmachine 0\nset r0 5\nput a r0\n")
+        self.assertEqual(told, Program((0,), ((("set", 0, 5), ("put", 0, 0)),)))
+
+    def test_e10(self):
+        self.assertIs(within(hub(3), full(3)), True)
+        self.assertEqual(web_text(full(2)), "machines 2\nwire 0 1\nwire 1 0\n")

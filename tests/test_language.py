@@ -14,24 +14,6 @@ METHODS = """append clear copy count endswith extend find get index insert isaln
     rstrip setdefault split splitlines startswith strip update upper values zfill bit_length add discard isascii""".split()
 BARRED = (ast.ExceptHandler, ast.Global, ast.AsyncFunctionDef, ast.Await, ast.Yield, ast.YieldFrom, ast.Div, ast.Import,
           ast.GeneratorExp)
-INTERFACE = {
-    "errors": ["GrowError"],
-    "webs": "Web both_ways full hub line ring renamed with_wire without_wire reached is_strong".split(),
-    "records": "Record ahead is_whole".split(),
-    "runs": "led is_run".split(),
-    "growing": "growing trees run_of bar is_trees is_bar is_made may_have_put may_come".split(),
-    "days": "uncaused sure_wires thinned fewest_wires is_least_web".split(),
-    "halls": "Hall cuts node_diaries picture is_node_diaries hall_of".split(),
-    "sights": "first_sights ways_apart is_first_sights is_ways_apart partings count_made".split(),
-    "programs": "Program put_rests renamed_program waits_of".split(),
-    "benches": "Bench replayed".split(),
-    "outcomes": "outcomes run_to stuck is_run_to many_standings".split(),
-    "plain": "plain_outcomes not_plain fewest_rests".split(),
-}
-METHODS_LISTED = {
-    "Bench": """can step steps back go set_break clear_break breaks state row registers remembered told cells diary puts
-        letters web program outcome copy trying cut lay fall rise lives lived journal""".split(),
-}
 
 
 def files():
@@ -145,19 +127,6 @@ class Language(unittest.TestCase):
         for name, node in all_nodes():
             if isinstance(node, ast.Call) and isinstance(node.func, ast.Attribute):
                 self.assertIn(node.func.attr, own | set(METHODS), (name, node.lineno))
-
-    def test_the_interface_stands_where_it_is_listed(self):
-        for module, names in INTERFACE.items():
-            defined = self.defined_in(module)
-            self.assertEqual([name for name in names if name not in defined], [])
-
-    def test_the_methods_stand_in_their_classes(self):
-        defined = {node.name: [method.name for method in node.body if isinstance(method, ast.FunctionDef)]
-                   for _, node in all_nodes() if isinstance(node, ast.ClassDef)}
-        for name, methods in METHODS_LISTED.items():
-            self.assertEqual([method for method in methods if method not in defined[name]], [])
-        for name in ("Web", "Record", "Hall", "Program"):
-            self.assertIn("__eq__", defined[name])
 
     def test_no_name_is_a_method_and_an_attribute(self):
         methods = {method.name for _, node in all_nodes() if isinstance(node, ast.ClassDef)
