@@ -157,8 +157,7 @@ class Bench:
         other = Bench(self.begun_with, self.worked)
         for step in self.steps():
             other.moment.perform(step)
-        for place in self.halts:
-            other.halts[place] = True
+        other.halts = {place: True for place in self.halts}
         return other
 
     def trying(self, action):

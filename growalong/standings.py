@@ -50,7 +50,7 @@ class Play:
             return False
         if self.codes[x][at] != ("rest",):
             return True
-        return all([put in other[3] for other in machines for put in diary])
+        return all([has_all(other[3], diary) for other in machines])
 
     def behind_row(self, x, machine):
         """What a machine x is behind its next row."""
@@ -112,6 +112,12 @@ class PlainPlay:
     def outcome_of(self, standing):
         """The tuple of what each machine told if all are at their end, otherwise None."""
         return outcome_of_codes(self.codes, standing[0])
+
+
+def has_all(diary, puts):
+    """Whether some puts are all in a diary."""
+    known = {put: True for put in diary}
+    return all([put in known for put in puts])
 
 
 def outcome_of_codes(codes, machines):

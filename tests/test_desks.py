@@ -235,7 +235,6 @@ class Wrong(DeskTest):
 
     def test_no_line(self):
         desk = desk_with(*KEEPING)
-        things = [thing for thing in odd_things() if thing != "put"]
         lines = [
             "", " ", "x", "web", "web ", "web w", "web w ", "web  machines 2|", "web W machines 2|", "web w1 machines 2|",
             "web abcdefghi machines 2|", "web\tw machines 2|", " web w machines 2|", "webs w machines 2|", "Web w machines 2|",
@@ -250,7 +249,7 @@ class Wrong(DeskTest):
             "outcomes w c 1", "plain w", "plain", "plain w c c", "within w", "within w w w", "within", "steps b", "registers b 0",
             "puts b", "back b", "undoable", "do b 0\t", "web w machines 2\n", "do b 0\n", "\n", "undo\n", "\nundo",
             "web w machines 2|wire 0 1|\n", "do b 0\ndo b 0"]
-        for row in things + lines:
+        for row in odd_things() + lines:
             self.raised(desk, row, errors.NoLine)
 
     def test_texts_that_are_wrong(self):
