@@ -187,6 +187,12 @@ def all_standings(web, program):
     return found
 
 
+def counting(standings):
+    """A program of one machine that has so many unlike standings, an odd number from 5 on."""
+    # Each turn has two, and beside that there are both first rows, and the end.
+    return Program((0,), ((("set", 1, (standings - 3) // 2), ("set", 2, 1), ("add", 0, 0, 2), ("less", 0, 1, 2)),))
+
+
 FORMS = [("set", "rn"), ("copy", "rr"), ("add", "rrr"), ("take", "rrr"), ("put", "or"), ("put", "or"), ("look", "rc"),
          ("look", "rc"), ("tell", "r"), ("rest", ""), ("same", "rrt"), ("less", "rrt"), ("go", "t"), ("call", "t"),
          ("back", "")]

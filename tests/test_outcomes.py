@@ -9,7 +9,7 @@ from growalong.programs import Program
 from growalong.webs import Web, full, hub, line
 from tests.made import numbers
 from tests.odd import odd_things
-from tests.slowbench import STRAIGHT, all_standings, chance_program
+from tests.slowbench import STRAIGHT, all_standings, chance_program, counting
 
 TWO = full(2)
 REST = ("rest",)
@@ -125,6 +125,9 @@ class Outcomes(unittest.TestCase):
         self.assertEqual(many_standings(full(3), fits), 5000)
         self.assertEqual((outcomes(full(3), fits), stuck(full(3), fits)), ([((), (), ())], None))
         self.assertEqual(len(run_to(full(3), fits, ((), (), ()))), 99)
+        self.assertEqual(many_standings(full(1), counting(4999)), 4999)
+        with self.assertRaises(errors.TooMany):
+            many_standings(full(1), counting(5001))
         self.assertEqual(41 * 61 * 2, 5002)
         for program in (over, Program((0, 1, 2), tuple([(("put", x, 0), ("go", 0)) for x in (0, 1, 2)]))):
             for asked in ALL:

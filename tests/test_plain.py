@@ -10,7 +10,7 @@ from growalong.plain import fewest_rests, not_plain, plain_outcomes
 from growalong.programs import Program, put_rests, waits_of
 from growalong.webs import Web, full, line
 from tests.made import numbers
-from tests.slowbench import SlowBench, chance_program
+from tests.slowbench import SlowBench, chance_program, counting
 
 TWO = full(2)
 REST = ("rest",)
@@ -123,6 +123,9 @@ class Plain(unittest.TestCase):
             with self.assertRaises(errors.TooMany) as caught:
                 asked()
             self.assertEqual(caught.exception.most, 5000)
+        self.assertEqual(plain_outcomes(counting(4999)), [((),)])
+        with self.assertRaises(errors.TooMany):
+            plain_outcomes(counting(5001))
         # Few with one memory, but many with letters.
         puts = Program((0,), ((("put", 0, 0), ("go", 0)), ()))
         with self.assertRaises(errors.TooMany):
